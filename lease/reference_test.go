@@ -1,0 +1,313 @@
+package lease
+
+import (
+	"fmt"
+	"regexp"
+	"sort"
+	"strconv"
+	"strings"
+
+	"lease/api"
+)
+
+// The same promises once more, from the words of the document and in another manner than the program's: as plain as can be, with no thought for time.
+
+type refToken struct {
+	kind string // the kept word or bracket itself, or NAME, NUMBER, BAD
+	text string
+	at   int
+}
+
+var refRow = regexp.MustCompile(`^(?:[a-z]+|[0-9]+|#[0-9]*|(?s:.))`)
+var refNumber = regexp.MustCompile(`^(?:0|[1-9][0-9]{0,3})$`)
+var refWord = regexp.MustCompile(`^[a-z]{1,8}$`)
+
+func refTokens(src string) []refToken {
+	row := []refToken{}
+	for at := 0; at < len(src); {
+		if src[at] == ' ' || src[at] == '\n' {
+			at++
+			continue
+		}
+		text := refRow.FindString(src[at:])
+		kind := "BAD"
+		switch {
+		case text == "(" || text == ")":
+			kind = text
+		case strings.Contains(" let pair fst snd if add sub less loop new ", " "+text+" "):
+			kind = text
+		case refWord.MatchString(text):
+			kind = "NAME"
+		case refNumber.MatchString(text):
+			kind = "NUMBER"
+		}
+		row = append(row, refToken{kind, text, at})
+		at += len(text)
+	}
+	return row
+}
+
+// refShapes tells what stands behind each form's word.
+var refShapes = map[string]string{"let": "NAME e e )", "pair": "e e )", "fst": "e )", "snd": "e )", "if": "e e e )", "add": "e e )", "sub": "e e )", "less": "e e )", "loop": "e NAME e e )"}
+
+// refForm reads with a list of what is still to come; it answers the place of what can't stand there, or -1.
+func refForm(src string) int {
+	todo := []string{"e"}
+	for _, t := range refTokens(src) {
+		if len(todo) == 0 {
+			return t.at
+		}
+		next := todo[0]
+		todo = todo[1:]
+		shape, isForm := refShapes[t.kind]
+		switch {
+		case next == "e" && (t.kind == "NAME" || t.kind == "NUMBER"):
+		case next == "e" && t.kind == "(":
+			todo = append([]string{"form"}, todo...)
+		case next == "form" && isForm:
+			todo = append(strings.Fields(shape), todo...)
+		case next == t.kind:
+		default:
+			return t.at
+		}
+	}
+	if len(todo) > 0 {
+		return len(src)
+	}
+	return -1
+}
+
+type refExpr struct {
+	form       string
+	text       string // of a name or number; of let and loop, the name that is bound
+	first, end int    // its first byte, its last byte
+	parts      []*refExpr
+	typ        string // "" if it has none
+	fault      api.Errno
+}
+
+func refParse(row []refToken) (*refExpr, []refToken) {
+	t := row[0]
+	if t.kind != "(" {
+		return &refExpr{form: t.kind, text: t.text, first: t.at, end: t.at + len(t.text) - 1}, row[1:]
+	}
+	e := &refExpr{form: row[1].kind, first: t.at}
+	row = row[2:]
+	for row[0].kind != ")" {
+		isBinder := row[0].kind == "NAME" && (e.form == "let" && e.text == "" || e.form == "loop" && e.text == "" && len(e.parts) == 1)
+		if isBinder {
+			e.text = row[0].text
+			row = row[1:]
+			continue
+		}
+		var part *refExpr
+		part, row = refParse(row)
+		e.parts = append(e.parts, part)
+	}
+	e.end = row[0].at
+	return e, row[1:]
+}
+
+func refAll(e *refExpr) []*refExpr {
+	all := []*refExpr{e}
+	for _, p := range e.parts {
+		all = append(all, refAll(p)...)
+	}
+	return all
+}
+
+func refSize(typ string) int { return strings.Count(typ, "[") }
+
+// refHalves takes a pair's type apart.
+func refHalves(typ string) (string, string) {
+	depth := 0
+	for i, c := range typ {
+		switch {
+		case c == '[':
+			depth++
+		case c == ']':
+			depth--
+		case c == ',' && depth == 1:
+			return typ[1:i], typ[i+1 : len(typ)-1]
+		}
+	}
+	return "", ""
+}
+
+// refType writes down the type of each expression, and its fault if its parts have types and it has none.
+func refType(e *refExpr, names map[string]string) {
+	inner := func(typ string) map[string]string {
+		more := map[string]string{e.text: typ}
+		for k, v := range names {
+			if k != e.text {
+				more[k] = v
+			}
+		}
+		return more
+	}
+	for i, p := range e.parts {
+		scope := names
+		if i > 0 && i == len(e.parts)-1 && (e.form == "let" || e.form == "loop") {
+			scope = inner(e.parts[i-1].typ)
+		}
+		refType(p, scope)
+		if p.typ == "" {
+			return
+		}
+	}
+	typ := func(i int) string { return e.parts[i].typ }
+	right := true
+	switch e.form {
+	case "NUMBER":
+		e.typ = "n"
+	case "NAME":
+		e.typ = names[e.text]
+		if e.typ == "" {
+			e.fault = api.ErrName
+		}
+	case "let":
+		e.typ = typ(1)
+	case "pair":
+		e.typ = "[" + typ(0) + "," + typ(1) + "]"
+		if refSize(e.typ) > api.MaxType {
+			e.typ, e.fault = "", api.ErrBig
+		}
+	case "fst":
+		e.typ, _ = refHalves(typ(0))
+		right = typ(0) != "n"
+	case "snd":
+		_, e.typ = refHalves(typ(0))
+		right = typ(0) != "n"
+	case "if", "loop":
+		e.typ = typ(1)
+		right = typ(0) == "n" && typ(1) == typ(2)
+	default:
+		e.typ = "n"
+		right = typ(0) == "n" && typ(1) == "n"
+	}
+	if !right {
+		e.typ, e.fault = "", api.ErrType
+	}
+}
+
+func refCheck(src string) (api.Errno, int) {
+	if len(src) > api.MaxText {
+		return api.ErrLong, 0
+	}
+	if at := refForm(src); at >= 0 {
+		return api.ErrForm, at
+	}
+	root, _ := refParse(refTokens(src))
+	all := refAll(root)
+	brackets := []int{}
+	for _, e := range all {
+		if e.form == "pair" {
+			brackets = append(brackets, e.first)
+		}
+	}
+	sort.Ints(brackets)
+	if len(brackets) > api.MaxPairs {
+		return api.ErrMany, brackets[api.MaxPairs]
+	}
+	refType(root, nil)
+	sort.Slice(all, func(i, j int) bool { return all[i].end < all[j].end })
+	for _, e := range all {
+		if e.fault != api.OK {
+			return e.fault, e.first
+		}
+	}
+	return api.OK, 0
+}
+
+type refRun struct{ left, steps, cells int }
+
+type refPair struct{ first, second any }
+
+type refOut struct{}
+
+// refWork panics with a refOut where the fuel does not suffice.
+func (r *refRun) work(e *refExpr, names map[string]any) any {
+	if r.left == 0 {
+		panic(refOut{})
+	}
+	r.left--
+	r.steps++
+	with := func(v any) map[string]any {
+		more := map[string]any{}
+		for k, old := range names {
+			more[k] = old
+		}
+		more[e.text] = v
+		return more
+	}
+	part := func(i int) any { return r.work(e.parts[i], names) }
+	switch e.form {
+	case "NUMBER":
+		n, _ := strconv.Atoi(e.text)
+		return n
+	case "NAME":
+		return names[e.text]
+	case "let":
+		return r.work(e.parts[1], with(part(0)))
+	case "pair":
+		a := part(0)
+		b := part(1)
+		r.cells++
+		return refPair{a, b}
+	case "fst":
+		return part(0).(refPair).first
+	case "snd":
+		return part(0).(refPair).second
+	case "if":
+		if part(0).(int) != 0 {
+			return part(1)
+		}
+		return part(2)
+	case "loop":
+		n := part(0).(int)
+		x := part(1)
+		for ; n > 0; n-- {
+			x = r.work(e.parts[2], with(x))
+		}
+		return x
+	}
+	a := part(0).(int)
+	b := part(1).(int)
+	switch {
+	case e.form == "add":
+		return (a + b) % 10000
+	case e.form == "sub":
+		return (a - b + 10000) % 10000
+	case a < b:
+		return 1
+	}
+	return 0
+}
+
+func refText(v any) string {
+	if p, ok := v.(refPair); ok {
+		return fmt.Sprintf("[%s %s]", refText(p.first), refText(p.second))
+	}
+	return fmt.Sprint(v)
+}
+
+func refEval(src string, fuel int) (result api.Result, e api.Errno) {
+	if e, _ := refCheck(src); e != api.OK {
+		return api.Result{}, e
+	}
+	if fuel < 0 || fuel > api.MaxFuel {
+		return api.Result{}, api.ErrArg
+	}
+	defer func() {
+		if out := recover(); out != nil {
+			if _, ok := out.(refOut); !ok {
+				panic(out)
+			}
+			result, e = api.Result{}, api.ErrFuel
+		}
+	}()
+	root, _ := refParse(refTokens(src))
+	r := refRun{left: fuel}
+	v := r.work(root, nil)
+	return api.Result{Value: refText(v), Steps: r.steps, Cells: r.cells, Most: r.cells, Left: r.cells}, api.OK
+}
