@@ -1,29 +1,48 @@
-// Package check finds the first fault of a program's names and types.
+// Package check finds the first fault of a program's names and types, in which regions do not matter.
 package check
 
 import (
 	"lease/api"
 	"lease/tree"
+	"lease/types"
 )
 
+// noRegion is the region of every pair here.
+const noRegion = 0
+
 type checker struct {
-	table typeTable
+	table types.Table
 	types []int // of the expressions looked at so far
 }
 
 // Program answers the first fault and the place of its expression, or OK and 0.
 func Program(t tree.Tree) (api.Errno, int) {
-	if t.Pairs() > api.MaxPairs {
-		return api.ErrMany, t.PairAt(api.MaxPairs)
+	e, at := manyPairs(t)
+	if e != api.OK {
+		return e, at
 	}
 	c := checker{}
 	for i := 0; i < t.Len(); i++ {
 		node := t.Node(i)
-		kind, e := c.typeOf(node)
-		if e != api.OK {
-			return e, node.At
+		kind, fault := c.typeOf(node)
+		if fault != api.OK {
+			return fault, node.At
 		}
 		c.types = append(c.types, kind)
+	}
+	return api.OK, 0
+}
+
+func manyPairs(t tree.Tree) (api.Errno, int) {
+	count := 0
+	for i := 0; i < t.Len(); i++ {
+		node := t.Opened(i)
+		if node.Form == tree.Pair {
+			count++
+		}
+		if count > api.MaxPairs {
+			return api.ErrMany, node.At
+		}
 	}
 	return api.OK, 0
 }
@@ -31,7 +50,7 @@ func Program(t tree.Tree) (api.Errno, int) {
 // known gives the type of an expression that came earlier.
 func (c *checker) known(i int) int {
 	if i < 0 || i >= len(c.types) {
-		return number
+		return types.Number
 	}
 	return c.types[i]
 }
@@ -43,6 +62,8 @@ func (c *checker) typeOf(n tree.Node) (int, api.Errno) {
 	switch n.Form {
 	case tree.Name:
 		return c.typeOfName(n)
+	case tree.New:
+		return first, api.OK
 	case tree.Let:
 		return second, api.OK
 	case tree.Pair:
@@ -50,38 +71,38 @@ func (c *checker) typeOf(n tree.Node) (int, api.Errno) {
 	case tree.Fst, tree.Snd:
 		return c.typeOfPart(n.Form, first)
 	case tree.If, tree.Loop:
-		return second, typeErrorUnless(first == number && second == third)
+		return second, typeErrorUnless(first == types.Number && second == third)
 	case tree.Add, tree.Sub, tree.Less:
-		return number, typeErrorUnless(first == number && second == number)
+		return types.Number, typeErrorUnless(first == types.Number && second == types.Number)
 	}
-	return number, api.OK
+	return types.Number, api.OK
 }
 
 func (c *checker) typeOfName(n tree.Node) (int, api.Errno) {
 	if n.Source == tree.None {
-		return number, api.ErrName
+		return types.Number, api.ErrName
 	}
 	return c.known(n.Source), api.OK
 }
 
 func (c *checker) typeOfPair(first, second int) (int, api.Errno) {
-	kind := c.table.pair(first, second)
-	pair := c.table.at(kind)
-	if pair.size > api.MaxType {
-		return number, api.ErrBig
+	kind := c.table.Pair(noRegion, first, second)
+	pair := c.table.At(kind)
+	if pair.Size > api.MaxType {
+		return types.Number, api.ErrBig
 	}
 	return kind, api.OK
 }
 
 func (c *checker) typeOfPart(form tree.Form, whole int) (int, api.Errno) {
-	if whole == number {
-		return number, api.ErrType
+	if whole == types.Number {
+		return types.Number, api.ErrType
 	}
-	pair := c.table.at(whole)
+	pair := c.table.At(whole)
 	if form == tree.Fst {
-		return pair.first, api.OK
+		return pair.First, api.OK
 	}
-	return pair.second, api.OK
+	return pair.Second, api.OK
 }
 
 func typeErrorUnless(right bool) api.Errno {

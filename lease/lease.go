@@ -6,6 +6,8 @@ import (
 	"lease/check"
 	"lease/machine"
 	"lease/tree"
+	"lease/vet"
+	"lease/write"
 )
 
 // Check tells whether a text is a plain program, and if not, where (P3).
@@ -30,10 +32,22 @@ func Eval(src string, fuel int) (api.Result, api.Errno) {
 func Place(src string) (string, api.Errno) { return "", api.OK }
 
 // Erase takes the regions away (P6).
-func Erase(placed string) (string, api.Errno) { return "", api.OK }
+func Erase(placed string) (string, api.Errno) {
+	program, e, _ := parsePlaced(placed)
+	if e != api.OK {
+		return "", e
+	}
+	return write.Plain(program), api.OK
+}
 
 // Vet tells whether a placed program can use a dead cell, and where (P7).
-func Vet(placed string) (api.Errno, int) { return api.OK, 0 }
+func Vet(placed string) (api.Errno, int) {
+	program, e, at := readPlaced(placed)
+	if e != api.OK {
+		return e, at
+	}
+	return vet.Program(program)
+}
 
 // Run runs a placed program (P8).
 func Run(placed string, fuel int) (api.Result, api.Errno) { return api.Result{}, api.OK }
@@ -43,10 +57,32 @@ func readPlain(src string) (tree.Tree, api.Errno, int) {
 	if len(src) > api.MaxText {
 		return tree.Tree{}, api.ErrLong, 0
 	}
-	program, at, ok := tree.Parse(src)
+	program, at, ok := tree.ParsePlain(src)
 	if !ok {
 		return tree.Tree{}, api.ErrForm, at
 	}
 	e, where := check.Program(program)
 	return program, e, where
+}
+
+// readPlaced does the same for a placed program; faults of its regions are not looked for.
+func readPlaced(placed string) (tree.Tree, api.Errno, int) {
+	program, e, at := parsePlaced(placed)
+	if e != api.OK {
+		return program, e, at
+	}
+	e, at = check.Program(program)
+	return program, e, at
+}
+
+// parsePlaced stands alone because Erase asks for the form, not for names and types.
+func parsePlaced(placed string) (tree.Tree, api.Errno, int) {
+	if len(placed) > api.MaxPlaced {
+		return tree.Tree{}, api.ErrLong, 0
+	}
+	program, at, ok := tree.ParsePlaced(placed)
+	if !ok {
+		return tree.Tree{}, api.ErrForm, at
+	}
+	return program, api.OK, 0
 }

@@ -108,7 +108,7 @@ func (m *maker) lay(tokens []string) string {
 func wouldJoin(a, b string) bool {
 	letter := func(s string) bool { return s[0] >= 'a' && s[0] <= 'z' }
 	digit := func(s string) bool { return s[0] >= '0' && s[0] <= '9' }
-	return letter(a) && letter(b) || digit(a) && digit(b)
+	return letter(a) && letter(b) || (digit(a) || a[0] == '#') && digit(b)
 }
 
 func compareCheck(t *testing.T, src string) api.Errno {
@@ -139,6 +139,8 @@ func TestRowsOfTokens(t *testing.T) {
 		for _, row := range rows {
 			if length > 0 {
 				compareCheck(t, row)
+				compareVet(t, row)
+				compareErase(t, row)
 			}
 			for _, token := range tokens {
 				longer = append(longer, row+token+" ")

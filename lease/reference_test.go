@@ -13,13 +13,14 @@ import (
 // The same promises once more, from the words of the document and in another manner than the program's: as plain as can be, with no thought for time.
 
 type refToken struct {
-	kind string // the kept word or bracket itself, or NAME, NUMBER, BAD
+	kind string // the kept word or bracket itself, or NAME, NUMBER, REGION, BAD
 	text string
 	at   int
 }
 
 var refRow = regexp.MustCompile(`^(?:[a-z]+|[0-9]+|#[0-9]*|(?s:.))`)
 var refNumber = regexp.MustCompile(`^(?:0|[1-9][0-9]{0,3})$`)
+var refRegion = regexp.MustCompile(`^#(?:0|[1-9][0-9]{0,2})$`)
 var refWord = regexp.MustCompile(`^[a-z]{1,8}$`)
 
 func refTokens(src string) []refToken {
@@ -40,6 +41,8 @@ func refTokens(src string) []refToken {
 			kind = "NAME"
 		case refNumber.MatchString(text):
 			kind = "NUMBER"
+		case refRegion.MatchString(text):
+			kind = "REGION"
 		}
 		row = append(row, refToken{kind, text, at})
 		at += len(text)
@@ -47,11 +50,12 @@ func refTokens(src string) []refToken {
 	return row
 }
 
-// refShapes tells what stands behind each form's word.
+// refShapes tells what stands behind each form's word; refPlacedShapes has what is otherwise in a placed program.
 var refShapes = map[string]string{"let": "NAME e e )", "pair": "e e )", "fst": "e )", "snd": "e )", "if": "e e e )", "add": "e e )", "sub": "e e )", "less": "e e )", "loop": "e NAME e e )"}
+var refPlacedShapes = map[string]string{"pair": "REGION e e )", "new": "REGION e )"}
 
 // refForm reads with a list of what is still to come; it answers the place of what can't stand there, or -1.
-func refForm(src string) int {
+func refForm(src string, placed bool) int {
 	todo := []string{"e"}
 	for _, t := range refTokens(src) {
 		if len(todo) == 0 {
@@ -60,6 +64,9 @@ func refForm(src string) int {
 		next := todo[0]
 		todo = todo[1:]
 		shape, isForm := refShapes[t.kind]
+		if other, ok := refPlacedShapes[t.kind]; ok && placed {
+			shape, isForm = other, true
+		}
 		switch {
 		case next == "e" && (t.kind == "NAME" || t.kind == "NUMBER"):
 		case next == "e" && t.kind == "(":
@@ -80,10 +87,12 @@ func refForm(src string) int {
 type refExpr struct {
 	form       string
 	text       string // of a name or number; of let and loop, the name that is bound
+	region     string // of new; of a placed pair
 	first, end int    // its first byte, its last byte
 	parts      []*refExpr
 	typ        string // "" if it has none
 	fault      api.Errno
+	placed     string // its placed type
 }
 
 func refParse(row []refToken) (*refExpr, []refToken) {
@@ -94,6 +103,11 @@ func refParse(row []refToken) (*refExpr, []refToken) {
 	e := &refExpr{form: row[1].kind, first: t.at}
 	row = row[2:]
 	for row[0].kind != ")" {
+		if row[0].kind == "REGION" {
+			e.region = row[0].text
+			row = row[1:]
+			continue
+		}
 		isBinder := row[0].kind == "NAME" && (e.form == "let" && e.text == "" || e.form == "loop" && e.text == "" && len(e.parts) == 1)
 		if isBinder {
 			e.text = row[0].text
@@ -165,6 +179,8 @@ func refType(e *refExpr, names map[string]string) {
 		if e.typ == "" {
 			e.fault = api.ErrName
 		}
+	case "new":
+		e.typ = typ(0)
 	case "let":
 		e.typ = typ(1)
 	case "pair":
@@ -194,26 +210,147 @@ func refCheck(src string) (api.Errno, int) {
 	if len(src) > api.MaxText {
 		return api.ErrLong, 0
 	}
-	if at := refForm(src); at >= 0 {
+	if at := refForm(src, false); at >= 0 {
 		return api.ErrForm, at
 	}
 	root, _ := refParse(refTokens(src))
-	all := refAll(root)
-	brackets := []int{}
-	for _, e := range all {
-		if e.form == "pair" {
-			brackets = append(brackets, e.first)
+	return refFaults(root)
+}
+
+// refOf gives the expressions of one form, by their first bytes.
+func refOf(root *refExpr, form string) []*refExpr {
+	row := []*refExpr{}
+	for _, e := range refAll(root) {
+		if e.form == form {
+			row = append(row, e)
 		}
 	}
-	sort.Ints(brackets)
-	if len(brackets) > api.MaxPairs {
-		return api.ErrMany, brackets[api.MaxPairs]
+	sort.Slice(row, func(i, j int) bool { return row[i].first < row[j].first })
+	return row
+}
+
+// refInOrder gives all expressions in their order.
+func refInOrder(root *refExpr) []*refExpr {
+	all := refAll(root)
+	sort.Slice(all, func(i, j int) bool { return all[i].end < all[j].end })
+	return all
+}
+
+func refFaults(root *refExpr) (api.Errno, int) {
+	if pairs := refOf(root, "pair"); len(pairs) > api.MaxPairs {
+		return api.ErrMany, pairs[api.MaxPairs].first
 	}
 	refType(root, nil)
-	sort.Slice(all, func(i, j int) bool { return all[i].end < all[j].end })
-	for _, e := range all {
+	for _, e := range refInOrder(root) {
 		if e.fault != api.OK {
 			return e.fault, e.first
+		}
+	}
+	return api.OK, 0
+}
+
+// refTidy is the text of tokens.
+func refTidy(row []string) string {
+	text := strings.Join(row, " ")
+	return strings.ReplaceAll(strings.ReplaceAll(text, "( ", "("), " )", ")")
+}
+
+// refErase drops tokens; of each bracket that is open it knows whether it is a new's.
+func refErase(placed string) (string, api.Errno) {
+	if len(placed) > api.MaxPlaced {
+		return "", api.ErrLong
+	}
+	if refForm(placed, true) >= 0 {
+		return "", api.ErrForm
+	}
+	row := refTokens(placed)
+	kept := []string{}
+	isNew := []bool{}
+	for i, t := range row {
+		drop := t.kind == "REGION" || t.kind == "new"
+		switch t.kind {
+		case "(":
+			drop = row[i+1].kind == "new"
+			isNew = append(isNew, drop)
+		case ")":
+			drop = isNew[len(isNew)-1]
+			isNew = isNew[:len(isNew)-1]
+		}
+		if !drop {
+			kept = append(kept, t.text)
+		}
+	}
+	return refTidy(kept), api.OK
+}
+
+// refPlacedType writes down the placed types, as if nothing were wrong: a pair's is [#k,first,second].
+func refPlacedType(e *refExpr, names map[string]string) {
+	for i, p := range e.parts {
+		scope := names
+		if i > 0 && i == len(e.parts)-1 && (e.form == "let" || e.form == "loop") {
+			scope = map[string]string{}
+			for k, v := range names {
+				scope[k] = v
+			}
+			scope[e.text] = e.parts[i-1].placed
+		}
+		refPlacedType(p, scope)
+	}
+	halves := func() (string, string) {
+		rest := strings.SplitN(e.parts[0].placed, ",", 2)
+		return refHalves("[" + rest[1])
+	}
+	switch e.form {
+	case "NAME":
+		e.placed = names[e.text]
+	case "new":
+		e.placed = e.parts[0].placed
+	case "let", "if", "loop":
+		e.placed = e.parts[1].placed
+	case "pair":
+		e.placed = "[" + e.region + "," + e.parts[0].placed + "," + e.parts[1].placed + "]"
+	case "fst":
+		e.placed, _ = halves()
+	case "snd":
+		_, e.placed = halves()
+	default:
+		e.placed = "n"
+	}
+}
+
+func refVet(placed string) (api.Errno, int) {
+	if len(placed) > api.MaxPlaced {
+		return api.ErrLong, 0
+	}
+	if at := refForm(placed, true); at >= 0 {
+		return api.ErrForm, at
+	}
+	root, _ := refParse(refTokens(placed))
+	if e, at := refFaults(root); e != api.OK {
+		return e, at
+	}
+	news := refOf(root, "new")
+	for i, n := range news {
+		for _, earlier := range news[:i] {
+			if earlier.region == n.region {
+				return api.ErrTwice, n.first
+			}
+		}
+	}
+	for _, p := range refOf(root, "pair") {
+		for _, n := range news {
+			if n.region == p.region && !(n.first < p.first && p.end < n.end) {
+				return api.ErrScope, p.first
+			}
+		}
+	}
+	refPlacedType(root, nil)
+	for _, e := range refInOrder(root) {
+		if (e.form == "if" || e.form == "loop") && e.parts[1].placed != e.parts[2].placed {
+			return api.ErrMatch, e.first
+		}
+		if e.form == "new" && strings.Contains(e.parts[0].placed, "["+e.region+",") {
+			return api.ErrEscape, e.first
 		}
 	}
 	return api.OK, 0

@@ -10,16 +10,27 @@ type binding struct {
 
 type parser struct {
 	text   string
-	from   int // where the next token is looked for
+	placed bool // regions stand in the text
+	from   int  // where the next token is looked for
 	failed bool
 	at     int // where it failed
 	scope  []binding
 	tree   Tree
 }
 
-// Parse reads a plain program. If the text is none, it answers false and the place of what can't stand there.
-func Parse(text string) (Tree, int, bool) {
+// ParsePlain reads a plain program. If the text is none, it answers false and the place of what can't stand there.
+func ParsePlain(text string) (Tree, int, bool) {
 	p := parser{text: text}
+	return p.program()
+}
+
+// ParsePlaced reads a placed program, and answers as ParsePlain does.
+func ParsePlaced(text string) (Tree, int, bool) {
+	p := parser{text: text, placed: true}
+	return p.program()
+}
+
+func (p *parser) program() (Tree, int, bool) {
 	p.expression()
 	p.expect(token.End)
 	if p.failed {
@@ -52,77 +63,105 @@ func (p *parser) expect(kind token.Kind) token.Token {
 	return t
 }
 
-func (p *parser) add(n Node) int {
-	p.tree.nodes = append(p.tree.nodes, n)
-	return len(p.tree.nodes) - 1
+// expression keeps a seat for the node ahead of its parts, for its index is known only behind them.
+func (p *parser) expression() int {
+	seat := len(p.tree.opened)
+	p.tree.opened = append(p.tree.opened, None)
+	i := p.anyForm()
+	if seat < len(p.tree.opened) {
+		p.tree.opened[seat] = i
+	}
+	return i
 }
 
-func (p *parser) expression() int {
+func (p *parser) anyForm() int {
 	t := p.take()
+	node := Node{At: t.At, Behind: t.Behind, Source: None, Parts: noParts()}
 	switch t.Kind {
 	case token.Number:
-		return p.add(Node{Form: Number, At: t.At, Number: t.Number, Source: None, Parts: noParts()})
+		node.Form = Number
+		node.Number = t.Number
+		return p.add(node)
 	case token.Name:
-		source := p.find(t.Word)
-		return p.add(Node{Form: Name, At: t.At, Source: source, Parts: noParts()})
+		node.Form = Name
+		node.Word = t.Word
+		node.Source = p.find(t.Word)
+		return p.add(node)
 	case token.Open:
-		return p.bracket(t.At)
+		return p.bracket(node)
 	}
 	p.fail(t.At)
 	return None
 }
 
-func (p *parser) bracket(at int) int {
+func (p *parser) add(n Node) int {
+	p.tree.nodes = append(p.tree.nodes, n)
+	return len(p.tree.nodes) - 1
+}
+
+func (p *parser) bracket(n Node) int {
 	word := p.take()
-	form := formOf(word.Kind)
-	if form == Nothing {
+	n.Form = formOf(word.Kind)
+	if n.Form == Nothing || n.Form == New && !p.placed {
 		p.fail(word.At)
 		return None
 	}
-	if form == Pair {
-		p.tree.pairs = append(p.tree.pairs, at)
-	}
-	parts := p.parts(form)
-	p.expect(token.Close)
-	return p.add(Node{Form: form, At: at, Source: None, Parts: parts})
+	p.fill(&n)
+	end := p.expect(token.Close)
+	n.Behind = end.Behind
+	return p.add(n)
 }
 
-func (p *parser) parts(form Form) [3]int {
-	switch form {
+func (p *parser) fill(n *Node) {
+	switch n.Form {
 	case Let:
-		return p.letParts()
+		p.fillLet(n)
 	case Loop:
-		return p.loopParts()
+		p.fillLoop(n)
+	case Pair:
+		if p.placed {
+			p.fillRegion(n)
+		}
+		p.fillRow(n, 2)
+	case New:
+		p.fillRegion(n)
+		p.fillRow(n, 1)
 	case Fst, Snd:
-		return p.row(1)
+		p.fillRow(n, 1)
 	case If:
-		return p.row(3)
+		p.fillRow(n, 3)
+	default:
+		p.fillRow(n, 2)
 	}
-	return p.row(2)
 }
 
-func (p *parser) letParts() [3]int {
+func (p *parser) fillLet(n *Node) {
 	name := p.expect(token.Name)
 	source := p.expression()
 	body := p.body(name.Word, source)
-	return [3]int{source, body, None}
+	n.Word = name.Word
+	n.Parts = [3]int{source, body, None}
 }
 
-func (p *parser) loopParts() [3]int {
+func (p *parser) fillLoop(n *Node) {
 	times := p.expression()
 	name := p.expect(token.Name)
 	source := p.expression()
 	body := p.body(name.Word, source)
-	return [3]int{times, source, body}
+	n.Word = name.Word
+	n.Parts = [3]int{times, source, body}
 }
 
-func (p *parser) row(count int) [3]int {
-	parts := noParts()
-	for i := 0; i < count && i < len(parts); i++ {
+func (p *parser) fillRegion(n *Node) {
+	region := p.expect(token.Region)
+	n.Region = region.Number
+}
+
+func (p *parser) fillRow(n *Node, count int) {
+	for i := 0; i < count && i < len(n.Parts); i++ {
 		part := p.expression()
-		parts[i] = part
+		n.Parts[i] = part
 	}
-	return parts
 }
 
 // body reads the expression in which a word is bound.
@@ -169,6 +208,8 @@ func formOf(kind token.Kind) Form {
 		return Less
 	case token.Loop:
 		return Loop
+	case token.New:
+		return New
 	}
 	return Nothing
 }

@@ -17,24 +17,27 @@ const (
 	Sub
 	Less
 	Loop
+	New
 )
 
 // None stands where there is no expression.
 const None = -1
 
-// Node is one expression. Parts are its expressions from left to right.
+// Node is one expression: its bytes are those from At up to, but not with, Behind. Parts are its expressions from left to right.
 type Node struct {
-	Form   Form
-	At     int // the place of its first byte
-	Number int // of a Number
-	Source int // of a Name: the expression that it is bound to, or None
-	Parts  [3]int
+	Form       Form
+	At, Behind int
+	Number     int    // of a Number
+	Word       string // of a Name; of a Let or a Loop: the name that it binds
+	Region     int    // of a New, and of a Pair of a placed program
+	Source     int    // of a Name: the expression that it is bound to, or None
+	Parts      [3]int
 }
 
 // Tree is a program. Its nodes stand in the order of expressions, so that the parts of a node, and what a name is bound to, have lower indices than itself.
 type Tree struct {
-	nodes []Node
-	pairs []int
+	nodes  []Node
+	opened []int // the indices of the nodes, by the places of their first bytes
 }
 
 // Len tells how many expressions there are.
@@ -51,15 +54,12 @@ func (t Tree) Node(i int) Node {
 	return t.nodes[i]
 }
 
-// Pairs tells how many pairs there are.
-func (t Tree) Pairs() int { return len(t.pairs) }
-
-// PairAt gives the place of a pair's bracket; pairs are counted from 0 on by these places.
-func (t Tree) PairAt(i int) int {
-	if i < 0 || i >= len(t.pairs) {
-		return 0
+// Opened gives an expression too, but here they are counted by the places of their first bytes.
+func (t Tree) Opened(i int) Node {
+	if i < 0 || i >= len(t.opened) {
+		return t.Node(None)
 	}
-	return t.pairs[i]
+	return t.Node(t.opened[i])
 }
 
 func noParts() [3]int { return [3]int{None, None, None} }
