@@ -19,6 +19,8 @@ type answers struct {
 	eraseE  api.Errno
 	vetE    api.Errno
 	vetAt   int
+	run     api.Result
+	runE    api.Errno
 }
 
 // call makes all calls at a text, and tells whether their answers keep to P1.
@@ -29,6 +31,7 @@ func call(t *testing.T, text string, fuel int) answers {
 	a.result, a.evalE = Eval(text, fuel)
 	a.erased, a.eraseE = Erase(text)
 	a.vetE, a.vetAt = Vet(text)
+	a.run, a.runE = Run(text, fuel)
 	if !mayAnswer(text, a.checkE, a.checkAt, api.ErrBig) {
 		t.Errorf("P1: Check(%.60q) = %d, %d", text, a.checkE, a.checkAt)
 	}
@@ -43,6 +46,12 @@ func call(t *testing.T, text string, fuel int) answers {
 	}
 	if (a.eraseE == api.OK) != (a.erased != "") {
 		t.Errorf("P1: Erase(%.60q) = %.60q with the error %d", text, a.erased, a.eraseE)
+	}
+	if a.runE != api.OK && a.run != (api.Result{}) {
+		t.Errorf("P1: Run(%.60q, %d) = %+v with the error %d", text, fuel, a.run, a.runE)
+	}
+	if !mayRunTo(a.vetE, fuel, a.runE) {
+		t.Errorf("P1: Run(%.60q, %d) has the error %d, Vet %d", text, fuel, a.runE, a.vetE)
 	}
 	formE := a.vetE
 	if formE > api.ErrForm {
@@ -60,6 +69,17 @@ func mayAnswer(text string, e api.Errno, at int, last api.Errno) bool {
 		return at == 0
 	}
 	return e > api.OK && e <= last && at >= 0 && at <= len(text)
+}
+
+// mayRunTo looks at Run's error beside Vet's, of which the first six come ahead of Run's own.
+func mayRunTo(vetE api.Errno, fuel int, runE api.Errno) bool {
+	if vetE != api.OK && vetE <= api.ErrBig {
+		return runE == vetE
+	}
+	if fuel < 0 || fuel > api.MaxFuel {
+		return runE == api.ErrArg
+	}
+	return runE == api.OK || runE == api.ErrFuel || runE == api.ErrDead && vetE != api.OK
 }
 
 func TestAnyBytes(t *testing.T) {
@@ -91,6 +111,7 @@ func TestEveryByteEverywhere(t *testing.T) {
 				compareCheck(t, inserted)
 				compareVet(t, inserted)
 				compareErase(t, inserted)
+				compareRun(t, inserted, 100)
 			}
 		}
 	}
@@ -109,13 +130,14 @@ func TestLongAndDeepTexts(t *testing.T) {
 		call(t, strings.Repeat("(loop 9 x 1 ", n)+"x"+strings.Repeat(")", n), api.MaxFuel)
 		call(t, strings.Repeat("(loop 2 x ", n)+"1"+strings.Repeat(" x)", n), api.MaxFuel)
 		call(t, strings.Repeat("(new#1", n)+"(pair #1 1 2)"+strings.Repeat(")", n), api.MaxFuel)
+		call(t, "(loop 9999 x 1 "+strings.Repeat("(new#1", n)+"(fst(pair#2 1 2))"+strings.Repeat(")", n)+")", api.MaxFuel)
 		call(t, strings.Repeat("(let x (pair #1 1 2) (new #2 ", n)+"x"+strings.Repeat("))", n), api.MaxFuel)
 	}
 }
 
 func TestAnyFuel(t *testing.T) {
 	for _, fuel := range []int{math.MinInt, math.MinInt32, -api.MaxFuel, -1, 0, 1, api.MaxFuel, api.MaxFuel + 1, math.MaxInt32, math.MaxInt} {
-		for _, src := range []string{"", "x", "1", "(pair 1 2)", "(fst 1)", "(loop 9999 x (pair 1 2) (pair (snd x) (fst x)))", "(new #0 (fst (pair #0 1 2)))"} {
+		for _, src := range []string{"", "x", "1", "(pair 1 2)", "(fst 1)", "(loop 9999 x (pair 1 2) (pair (snd x) (fst x)))", "(new #0 (fst (pair #0 1 2)))", "(new #0 (pair #0 1 2))", "(fst (new #0 (pair #0 1 2)))"} {
 			call(t, src, fuel)
 		}
 	}
@@ -123,7 +145,7 @@ func TestAnyFuel(t *testing.T) {
 
 // Each text is asked about behind each other one: whatever a call kept would show.
 func TestNothingIsKept(t *testing.T) {
-	texts := []string{"", "1", "x", "(let x 1 x)", "(let x (pair 1 2) x)", "(pair 1 2)", "(pair 1", "(fst 1)", "(if 1 (pair 1 2) (pair 3 4))", "(loop 3 x 0 (add x (fst (pair 1 x))))", "(loop 999 x 0 x)", chain(63), chain(64), unused(100), unused(101), doubled(7), "(pair #0 1 2)", strings.Repeat(" ", api.MaxText+1), "(new #0 (fst (pair #0 1 2)))", "(new #0 (pair #0 1 2))", "(add (new #0 1) (fst (pair #0 1 2)))", "(new #1 (new #1 1))", "(if 1 (pair #0 1 2) (pair #1 1 2))", "(if 1 (pair #1 1 2) (pair #1 1 2))", at0(chain(63)), at0(unused(101)), strings.Repeat(" ", api.MaxPlaced+1)}
+	texts := []string{"", "1", "x", "(let x 1 x)", "(let x (pair 1 2) x)", "(pair 1 2)", "(pair 1", "(fst 1)", "(if 1 (pair 1 2) (pair 3 4))", "(loop 3 x 0 (add x (fst (pair 1 x))))", "(loop 999 x 0 x)", chain(63), chain(64), unused(100), unused(101), doubled(7), "(pair #0 1 2)", strings.Repeat(" ", api.MaxText+1), "(new #0 (fst (pair #0 1 2)))", "(new #0 (pair #0 1 2))", "(let x (new #0 (pair #0 1 2)) 5)", "(fst (new #0 (pair #0 1 2)))", "(new #0 (loop 3 x 0 (fst (pair #0 (add x 1) 0))))", "(loop 9 x 0 (new #0 (fst (pair #0 (add x 1) 0))))", "(add (new #0 1) (fst (pair #0 1 2)))", "(new #1 (new #1 1))", "(if 1 (pair #0 1 2) (pair #1 1 2))", "(if 1 (pair #1 1 2) (pair #1 1 2))", at0(chain(63)), at0(unused(101)), strings.Repeat(" ", api.MaxPlaced+1)}
 	first := []answers{}
 	for _, src := range texts {
 		first = append(first, call(t, src, 50))

@@ -22,10 +22,7 @@ func Eval(src string, fuel int) (api.Result, api.Errno) {
 	if e != api.OK {
 		return api.Result{}, e
 	}
-	if fuel < 0 || fuel > api.MaxFuel {
-		return api.Result{}, api.ErrArg
-	}
-	return machine.Run(program, fuel)
+	return run(program, fuel)
 }
 
 // Place gives every pair a region, and every region its place (P5).
@@ -50,7 +47,20 @@ func Vet(placed string) (api.Errno, int) {
 }
 
 // Run runs a placed program (P8).
-func Run(placed string, fuel int) (api.Result, api.Errno) { return api.Result{}, api.OK }
+func Run(placed string, fuel int) (api.Result, api.Errno) {
+	program, e, _ := readPlaced(placed)
+	if e != api.OK {
+		return api.Result{}, e
+	}
+	return run(program, fuel)
+}
+
+func run(program tree.Tree, fuel int) (api.Result, api.Errno) {
+	if fuel < 0 || fuel > api.MaxFuel {
+		return api.Result{}, api.ErrArg
+	}
+	return machine.Run(program, fuel)
+}
 
 // readPlain gives the program, and the first fault of the text and its place; with a fault the program is not to be used.
 func readPlain(src string) (tree.Tree, api.Errno, int) {

@@ -318,15 +318,22 @@ func refPlacedType(e *refExpr, names map[string]string) {
 	}
 }
 
-func refVet(placed string) (api.Errno, int) {
+// refPlaced gives a placed program, and the first fault that is not one of its regions.
+func refPlaced(placed string) (*refExpr, api.Errno, int) {
 	if len(placed) > api.MaxPlaced {
-		return api.ErrLong, 0
+		return nil, api.ErrLong, 0
 	}
 	if at := refForm(placed, true); at >= 0 {
-		return api.ErrForm, at
+		return nil, api.ErrForm, at
 	}
 	root, _ := refParse(refTokens(placed))
-	if e, at := refFaults(root); e != api.OK {
+	e, at := refFaults(root)
+	return root, e, at
+}
+
+func refVet(placed string) (api.Errno, int) {
+	root, e, at := refPlaced(placed)
+	if e != api.OK {
 		return e, at
 	}
 	news := refOf(root, "new")
@@ -356,28 +363,66 @@ func refVet(placed string) (api.Errno, int) {
 	return api.OK, 0
 }
 
-type refRun struct{ left, steps, cells int }
+// refCell and refLife know no numbers: what is live is found by looking at each cell that was ever made.
+type refCell struct {
+	first, second any
+	region        *refLife
+}
 
-type refPair struct{ first, second any }
+type refLife struct{ ended bool }
 
-type refOut struct{}
+type refRun struct {
+	left, steps int
+	cells       []*refCell
+	most        int
+	whole       *refLife
+}
 
-// refWork panics with a refOut where the fuel does not suffice.
-func (r *refRun) work(e *refExpr, names map[string]any) any {
+// refStop is what a run panics with where it can't go on.
+type refStop struct{ e api.Errno }
+
+func (r *refRun) live() int {
+	n := 0
+	for _, c := range r.cells {
+		if !c.region.ended {
+			n++
+		}
+	}
+	return n
+}
+
+// refUse gives a cell that is live.
+func refUse(v any) *refCell {
+	c := v.(*refCell)
+	if c.region.ended {
+		panic(refStop{api.ErrDead})
+	}
+	return c
+}
+
+// with gives names, of values or of regions, and one more.
+func with[V any](names map[string]V, name string, v V) map[string]V {
+	more := map[string]V{}
+	for k, old := range names {
+		more[k] = old
+	}
+	more[name] = v
+	return more
+}
+
+func (r *refRun) work(e *refExpr, names map[string]any, regions map[string]*refLife) any {
+	part := func(i int) any { return r.work(e.parts[i], names, regions) }
+	if e.form == "new" {
+		opened := &refLife{}
+		v := r.work(e.parts[0], names, with(regions, e.region, opened))
+		opened.ended = true
+		return v
+	}
 	if r.left == 0 {
-		panic(refOut{})
+		panic(refStop{api.ErrFuel})
 	}
 	r.left--
 	r.steps++
-	with := func(v any) map[string]any {
-		more := map[string]any{}
-		for k, old := range names {
-			more[k] = old
-		}
-		more[e.text] = v
-		return more
-	}
-	part := func(i int) any { return r.work(e.parts[i], names) }
 	switch e.form {
 	case "NUMBER":
 		n, _ := strconv.Atoi(e.text)
@@ -385,16 +430,19 @@ func (r *refRun) work(e *refExpr, names map[string]any) any {
 	case "NAME":
 		return names[e.text]
 	case "let":
-		return r.work(e.parts[1], with(part(0)))
+		return r.work(e.parts[1], with(names, e.text, part(0)), regions)
 	case "pair":
-		a := part(0)
-		b := part(1)
-		r.cells++
-		return refPair{a, b}
+		c := &refCell{first: part(0), second: part(1), region: regions[e.region]}
+		if c.region == nil {
+			c.region = r.whole
+		}
+		r.cells = append(r.cells, c)
+		r.most = max(r.most, r.live())
+		return c
 	case "fst":
-		return part(0).(refPair).first
+		return refUse(part(0)).first
 	case "snd":
-		return part(0).(refPair).second
+		return refUse(part(0)).second
 	case "if":
 		if part(0).(int) != 0 {
 			return part(1)
@@ -404,7 +452,7 @@ func (r *refRun) work(e *refExpr, names map[string]any) any {
 		n := part(0).(int)
 		x := part(1)
 		for ; n > 0; n-- {
-			x = r.work(e.parts[2], with(x))
+			x = r.work(e.parts[2], with(names, e.text, x), regions)
 		}
 		return x
 	}
@@ -422,29 +470,44 @@ func (r *refRun) work(e *refExpr, names map[string]any) any {
 }
 
 func refText(v any) string {
-	if p, ok := v.(refPair); ok {
-		return fmt.Sprintf("[%s %s]", refText(p.first), refText(p.second))
+	if _, ok := v.(*refCell); ok {
+		c := refUse(v)
+		return fmt.Sprintf("[%s %s]", refText(c.first), refText(c.second))
 	}
 	return fmt.Sprint(v)
 }
 
-func refEval(src string, fuel int) (result api.Result, e api.Errno) {
+func refEval(src string, fuel int) (api.Result, api.Errno) {
 	if e, _ := refCheck(src); e != api.OK {
 		return api.Result{}, e
 	}
+	root, _ := refParse(refTokens(src))
+	return refResult(root, fuel)
+}
+
+// refPlacedRun is Run.
+func refPlacedRun(placed string, fuel int) (api.Result, api.Errno) {
+	root, e, _ := refPlaced(placed)
+	if e != api.OK {
+		return api.Result{}, e
+	}
+	return refResult(root, fuel)
+}
+
+func refResult(root *refExpr, fuel int) (result api.Result, e api.Errno) {
 	if fuel < 0 || fuel > api.MaxFuel {
 		return api.Result{}, api.ErrArg
 	}
 	defer func() {
 		if out := recover(); out != nil {
-			if _, ok := out.(refOut); !ok {
+			stop, ok := out.(refStop)
+			if !ok {
 				panic(out)
 			}
-			result, e = api.Result{}, api.ErrFuel
+			result, e = api.Result{}, stop.e
 		}
 	}()
-	root, _ := refParse(refTokens(src))
-	r := refRun{left: fuel}
-	v := r.work(root, nil)
-	return api.Result{Value: refText(v), Steps: r.steps, Cells: r.cells, Most: r.cells, Left: r.cells}, api.OK
+	r := refRun{left: fuel, whole: &refLife{}}
+	v := r.work(root, nil, nil)
+	return api.Result{Value: refText(v), Steps: r.steps, Cells: len(r.cells), Most: r.most, Left: r.live()}, api.OK
 }

@@ -14,38 +14,60 @@ type value struct {
 	n      int
 }
 
-type cell struct{ first, second value }
-
 type machine struct {
 	program     tree.Tree
 	fuel, steps int
-	spent       bool // a step was wanted for which there was no fuel
+	fault       api.Errno // why the run has stopped, or OK
+	named       []value   // what a name is now, by the expression that it is bound to
 	cells       []cell
-	named       []value // what a name is now, by the expression that it is bound to
+	regions     []region // those that have not ended, the innermost last
+	opened      int      // how many regions there were so far
+	live, most  int      // how many cells are live, and were at once
 }
 
-// Run works a program out, in at most fuel steps.
+// Run works a program out, plain or placed, in at most fuel steps.
 func Run(program tree.Tree, fuel int) (api.Result, api.Errno) {
 	m := machine{program: program, fuel: fuel, named: make([]value, program.Len())}
+	m.open(wholeRun)
 	end := m.work(program.Root())
-	if m.spent {
-		return api.Result{}, api.ErrFuel
-	}
-	made := len(m.cells)
 	text := m.text(end)
-	return api.Result{Value: text, Steps: m.steps, Cells: made, Most: made, Left: made}, api.OK
+	if m.fault != api.OK {
+		return api.Result{}, m.fault
+	}
+	return api.Result{Value: text, Steps: m.steps, Cells: len(m.cells), Most: m.most, Left: m.live}, api.OK
 }
 
-// work takes a step each time, so that fuel bounds the loops of the program too.
-func (m *machine) work(i int) value {
-	if m.steps >= m.fuel {
-		m.spent = true
+// stop keeps the first fault alone, for what is still open may meet another on its way out.
+func (m *machine) stop(fault api.Errno) {
+	if m.fault == api.OK {
+		m.fault = fault
 	}
-	if m.spent {
+}
+
+func (m *machine) work(i int) value {
+	node := m.program.Node(i)
+	if node.Form == tree.New {
+		return m.workNew(node)
+	}
+	return m.step(node)
+}
+
+// workNew takes no step; yet fuel bounds the loops of the program, for within a row of news there is an expression that takes one.
+func (m *machine) workNew(n tree.Node) value {
+	m.open(n.Region)
+	inner := m.work(n.Parts[0])
+	m.end()
+	return inner
+}
+
+func (m *machine) step(node tree.Node) value {
+	if m.steps >= m.fuel {
+		m.stop(api.ErrFuel)
+	}
+	if m.fault != api.OK {
 		return value{}
 	}
 	m.steps++
-	node := m.program.Node(i)
 	switch node.Form {
 	case tree.Number:
 		return value{n: node.Number}
@@ -76,13 +98,12 @@ func (m *machine) workLet(n tree.Node) value {
 func (m *machine) workPair(n tree.Node) value {
 	first := m.work(n.Parts[0])
 	second := m.work(n.Parts[1])
-	m.cells = append(m.cells, cell{first: first, second: second})
-	return value{isCell: true, n: len(m.cells) - 1}
+	return m.newCell(n.Region, first, second)
 }
 
 func (m *machine) workPart(n tree.Node) value {
 	whole := m.work(n.Parts[0])
-	c := m.cellOf(whole)
+	c := m.use(whole)
 	if n.Form == tree.Fst {
 		return c.first
 	}
@@ -115,7 +136,7 @@ func (m *machine) workNumbers(n tree.Node) value {
 func (m *machine) workLoop(n tree.Node) value {
 	times := m.work(n.Parts[0])
 	x := m.work(n.Parts[1])
-	for i := 0; i < times.n && !m.spent; i++ {
+	for i := 0; i < times.n && m.fault == api.OK; i++ {
 		m.name(n.Parts[1], x)
 		x = m.work(n.Parts[2])
 	}
@@ -136,19 +157,12 @@ func (m *machine) look(source int) value {
 	return m.named[source]
 }
 
-func (m *machine) cellOf(v value) cell {
-	if !v.isCell || v.n < 0 || v.n >= len(m.cells) {
-		return cell{}
-	}
-	return m.cells[v.n]
-}
-
 // text ends, for the parts of a cell were made ahead of it.
 func (m *machine) text(v value) string {
 	if !v.isCell {
 		return strconv.Itoa(v.n)
 	}
-	c := m.cellOf(v)
+	c := m.use(v)
 	first := m.text(c.first)
 	second := m.text(c.second)
 	return "[" + first + " " + second + "]"
