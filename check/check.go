@@ -10,25 +10,20 @@ import (
 // noRegion is the region of every pair here.
 const noRegion = 0
 
-type checker struct {
-	table types.Table
-	types []int // of the expressions looked at so far
-}
-
 // Program answers the first fault and the place of its expression, or OK and 0.
 func Program(t tree.Tree) (api.Errno, int) {
 	e, at := manyPairs(t)
 	if e != api.OK {
 		return e, at
 	}
-	c := checker{}
+	typing := types.Typing{}
 	for i := 0; i < t.Len(); i++ {
 		node := t.Node(i)
-		kind, fault := c.typeOf(node)
+		kind := typing.Add(node, noRegion)
+		fault := faultOf(node, kind, &typing)
 		if fault != api.OK {
 			return fault, node.At
 		}
-		c.types = append(c.types, kind)
 	}
 	return api.OK, 0
 }
@@ -47,67 +42,30 @@ func manyPairs(t tree.Tree) (api.Errno, int) {
 	return api.OK, 0
 }
 
-// known gives the type of an expression that came earlier.
-func (c *checker) known(i int) int {
-	if i < 0 || i >= len(c.types) {
-		return types.Number
-	}
-	return c.types[i]
-}
-
-func (c *checker) typeOf(n tree.Node) (int, api.Errno) {
-	first := c.known(n.Parts[0])
-	second := c.known(n.Parts[1])
-	third := c.known(n.Parts[2])
+func faultOf(n tree.Node, kind int, typing *types.Typing) api.Errno {
+	first := typing.Of(n.Parts[0])
+	second := typing.Of(n.Parts[1])
+	third := typing.Of(n.Parts[2])
+	whole := typing.Table.At(kind)
+	wrong := false
 	switch n.Form {
 	case tree.Name:
-		return c.typeOfName(n)
-	case tree.New:
-		return first, api.OK
-	case tree.Let:
-		return second, api.OK
+		if n.Source == tree.None {
+			return api.ErrName
+		}
 	case tree.Pair:
-		return c.typeOfPair(first, second)
+		if whole.Size > api.MaxType {
+			return api.ErrBig
+		}
 	case tree.Fst, tree.Snd:
-		return c.typeOfPart(n.Form, first)
+		wrong = first == types.Number
 	case tree.If, tree.Loop:
-		return second, typeErrorUnless(first == types.Number && second == third)
+		wrong = first != types.Number || second != third
 	case tree.Add, tree.Sub, tree.Less:
-		return types.Number, typeErrorUnless(first == types.Number && second == types.Number)
+		wrong = first != types.Number || second != types.Number
 	}
-	return types.Number, api.OK
-}
-
-func (c *checker) typeOfName(n tree.Node) (int, api.Errno) {
-	if n.Source == tree.None {
-		return types.Number, api.ErrName
+	if wrong {
+		return api.ErrType
 	}
-	return c.known(n.Source), api.OK
-}
-
-func (c *checker) typeOfPair(first, second int) (int, api.Errno) {
-	kind := c.table.Pair(noRegion, first, second)
-	pair := c.table.At(kind)
-	if pair.Size > api.MaxType {
-		return types.Number, api.ErrBig
-	}
-	return kind, api.OK
-}
-
-func (c *checker) typeOfPart(form tree.Form, whole int) (int, api.Errno) {
-	if whole == types.Number {
-		return types.Number, api.ErrType
-	}
-	pair := c.table.At(whole)
-	if form == tree.Fst {
-		return pair.First, api.OK
-	}
-	return pair.Second, api.OK
-}
-
-func typeErrorUnless(right bool) api.Errno {
-	if right {
-		return api.OK
-	}
-	return api.ErrType
+	return api.OK
 }

@@ -15,6 +15,8 @@ type answers struct {
 	checkAt int
 	result  api.Result
 	evalE   api.Errno
+	placed  string
+	placeE  api.Errno
 	erased  string
 	eraseE  api.Errno
 	vetE    api.Errno
@@ -29,6 +31,7 @@ func call(t *testing.T, text string, fuel int) answers {
 	a := answers{}
 	a.checkE, a.checkAt = Check(text)
 	a.result, a.evalE = Eval(text, fuel)
+	a.placed, a.placeE = Place(text)
 	a.erased, a.eraseE = Erase(text)
 	a.vetE, a.vetAt = Vet(text)
 	a.run, a.runE = Run(text, fuel)
@@ -43,6 +46,12 @@ func call(t *testing.T, text string, fuel int) answers {
 	}
 	if a.checkE != api.OK && a.evalE != a.checkE {
 		t.Errorf("P1: Eval(%.60q, %d) has the error %d, Check %d", text, fuel, a.evalE, a.checkE)
+	}
+	if a.placeE != a.checkE || (a.placeE == api.OK) != (a.placed != "") {
+		t.Errorf("P1: Place(%.60q) = %.60q with the error %d, Check's is %d", text, a.placed, a.placeE, a.checkE)
+	}
+	if e, _ := Vet(a.placed); a.placeE == api.OK && e != api.OK {
+		t.Errorf("P9: Vet of Place(%.60q), %.60q, has the error %d", text, a.placed, e)
 	}
 	if (a.eraseE == api.OK) != (a.erased != "") {
 		t.Errorf("P1: Erase(%.60q) = %.60q with the error %d", text, a.erased, a.eraseE)
@@ -109,6 +118,7 @@ func TestEveryByteEverywhere(t *testing.T) {
 				inserted := text[:at] + string([]byte{byte(c)}) + text[at:]
 				call(t, inserted, 100)
 				compareCheck(t, inserted)
+				comparePlace(t, inserted)
 				compareVet(t, inserted)
 				compareErase(t, inserted)
 				compareRun(t, inserted, 100)

@@ -5,6 +5,7 @@ import (
 	"lease/api"
 	"lease/check"
 	"lease/machine"
+	"lease/place"
 	"lease/tree"
 	"lease/vet"
 	"lease/write"
@@ -26,7 +27,14 @@ func Eval(src string, fuel int) (api.Result, api.Errno) {
 }
 
 // Place gives every pair a region, and every region its place (P5).
-func Place(src string) (string, api.Errno) { return "", api.OK }
+func Place(src string) (string, api.Errno) {
+	program, e, _ := readPlain(src)
+	if e != api.OK {
+		return "", e
+	}
+	layout := place.Program(program)
+	return write.Placed(program, layout), api.OK
+}
 
 // Erase takes the regions away (P6).
 func Erase(placed string) (string, api.Errno) {

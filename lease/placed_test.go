@@ -22,7 +22,7 @@ func (m *maker) regions(plain []string) []string {
 		}
 	}
 	if m.Intn(2) == 0 {
-		return m.placed(root, m.newsAboutPairs(root))
+		return refPlacedTokens(root, m.newsAboutPairs(root))
 	}
 	news := map[*refExpr][]string{}
 	for n := m.Intn(4); n > 0; n-- {
@@ -33,7 +33,7 @@ func (m *maker) regions(plain []string) []string {
 		}
 		news[about] = append(news[about], region)
 	}
-	return m.placed(root, news)
+	return refPlacedTokens(root, news)
 }
 
 // newsAboutPairs gives most regions one new, which all pairs of the region lie in, so that Vet often has no more to ask.
@@ -59,37 +59,6 @@ func (m *maker) newsAboutPairs(root *refExpr) map[*refExpr][]string {
 		}
 	}
 	return news
-}
-
-func (m *maker) placed(e *refExpr, news map[*refExpr][]string) []string {
-	row := []string{}
-	for _, region := range news[e] {
-		row = append(row, "(", "new", region)
-	}
-	row = append(row, m.placedForm(e, news)...)
-	for range news[e] {
-		row = append(row, ")")
-	}
-	return row
-}
-
-func (m *maker) placedForm(e *refExpr, news map[*refExpr][]string) []string {
-	if e.form == "NAME" || e.form == "NUMBER" {
-		return []string{e.text}
-	}
-	parts := [][]string{}
-	for _, p := range e.parts {
-		parts = append(parts, m.placed(p, news))
-	}
-	switch e.form {
-	case "pair":
-		return form("pair", append([][]string{{e.region}}, parts...)...)
-	case "let":
-		return form("let", []string{e.text}, parts[0], parts[1])
-	case "loop":
-		return form("loop", parts[0], []string{e.text}, parts[1], parts[2])
-	}
-	return form(e.form, parts...)
 }
 
 func compareVet(t *testing.T, placed string) api.Errno {

@@ -363,6 +363,137 @@ func refVet(placed string) (api.Errno, int) {
 	return api.OK, 0
 }
 
+// refPlacedTokens writes a program with the regions that its pairs have, and with these news about its expressions.
+func refPlacedTokens(e *refExpr, news map[*refExpr][]string) []string {
+	row := []string{}
+	for _, region := range news[e] {
+		row = append(row, "(", "new", region)
+	}
+	switch e.form {
+	case "NAME", "NUMBER":
+		row = append(row, e.text)
+	case "pair":
+		row = append(row, "(", "pair", e.region)
+	case "let":
+		row = append(row, "(", "let", e.text)
+	default:
+		row = append(row, "(", e.form)
+	}
+	for i, p := range e.parts {
+		if e.form == "loop" && i == 1 {
+			row = append(row, e.text)
+		}
+		row = append(row, refPlacedTokens(p, news)...)
+	}
+	if len(e.parts) > 0 {
+		row = append(row, ")")
+	}
+	for range news[e] {
+		row = append(row, ")")
+	}
+	return row
+}
+
+var refRegions = regexp.MustCompile(`#[0-9]+`)
+
+// refClash gives two regions that stand at the same place in two placed types that must be the same.
+func refClash(root *refExpr) (string, string, bool) {
+	for _, e := range refAll(root) {
+		if e.form != "if" && e.form != "loop" {
+			continue
+		}
+		other := refRegions.FindAllString(e.parts[2].placed, -1)
+		for i, region := range refRegions.FindAllString(e.parts[1].placed, -1) {
+			if region != other[i] {
+				return region, other[i], true
+			}
+		}
+	}
+	return "", "", false
+}
+
+// refShare gives each pair a region of its own, and makes two regions one wherever types clash, until none do. Then it counts the regions, and tells how many there are.
+func refShare(root *refExpr) int {
+	pairs := refOf(root, "pair")
+	rename := func(from, to string) {
+		for _, p := range pairs {
+			if p.region == from {
+				p.region = to
+			}
+		}
+	}
+	for i, p := range pairs {
+		p.region = "#" + strconv.Itoa(1000+i)
+	}
+	refPlacedType(root, nil)
+	for one, other, clash := refClash(root); clash; one, other, clash = refClash(root) {
+		rename(one, other)
+		refPlacedType(root, nil)
+	}
+	count := 0
+	for _, p := range pairs {
+		if len(p.region) == 5 {
+			rename(p.region, "#"+strconv.Itoa(count))
+			count++
+		}
+	}
+	refPlacedType(root, nil)
+	return count
+}
+
+func refMentions(e *refExpr, region string) bool { return strings.Contains(e.placed, "["+region+",") }
+
+// refAbout gives the expression about which a region's new stands, or nil.
+func refAbout(root *refExpr, region string) *refExpr {
+	all := refAll(root)
+	mention := []*refExpr{}
+	for _, e := range all {
+		if refMentions(e, region) {
+			mention = append(mention, e)
+		}
+	}
+	holds := func(e *refExpr) bool {
+		for _, other := range mention {
+			if other.first < e.first || other.end > e.end {
+				return false
+			}
+		}
+		return true
+	}
+	smallest := root
+	for _, e := range all {
+		if holds(e) && e.end-e.first < smallest.end-smallest.first {
+			smallest = e
+		}
+	}
+	if !refMentions(smallest, region) {
+		return smallest
+	}
+	for _, e := range all {
+		for _, p := range e.parts {
+			if p == smallest {
+				return e
+			}
+		}
+	}
+	return nil
+}
+
+func refPlace(src string) (string, api.Errno) {
+	if e, _ := refCheck(src); e != api.OK {
+		return "", e
+	}
+	root, _ := refParse(refTokens(src))
+	news := map[*refExpr][]string{}
+	for i := range refShare(root) {
+		region := "#" + strconv.Itoa(i)
+		if about := refAbout(root, region); about != nil {
+			news[about] = append(news[about], region)
+		}
+	}
+	return refTidy(refPlacedTokens(root, news)), api.OK
+}
+
 // refCell and refLife know no numbers: what is live is found by looking at each cell that was ever made.
 type refCell struct {
 	first, second any

@@ -61,60 +61,32 @@ func outside(t tree.Tree, news []tree.Node) (api.Errno, int) {
 	return api.OK, 0
 }
 
-type typer struct {
-	table types.Table
-	types []int // the placed types of the expressions looked at so far
-}
-
 func placedTypes(t tree.Tree) (api.Errno, int) {
-	y := typer{}
+	typing := types.Typing{}
 	for i := 0; i < t.Len(); i++ {
 		node := t.Node(i)
-		kind, e := y.typeOf(node)
+		typing.Add(node, node.Region)
+		e := faultOf(node, &typing)
 		if e != api.OK {
 			return e, node.At
 		}
-		y.types = append(y.types, kind)
 	}
 	return api.OK, 0
 }
 
-// known gives the placed type of an expression that came earlier.
-func (y *typer) known(i int) int {
-	if i < 0 || i >= len(y.types) {
-		return types.Number
-	}
-	return y.types[i]
-}
-
-func (y *typer) typeOf(n tree.Node) (int, api.Errno) {
-	first := y.known(n.Parts[0])
-	second := y.known(n.Parts[1])
-	third := y.known(n.Parts[2])
-	whole := y.table.At(first)
+func faultOf(n tree.Node, typing *types.Typing) api.Errno {
+	first := typing.Of(n.Parts[0])
+	second := typing.Of(n.Parts[1])
+	third := typing.Of(n.Parts[2])
 	switch n.Form {
-	case tree.Name:
-		return y.known(n.Source), api.OK
-	case tree.Let:
-		return second, api.OK
-	case tree.Pair:
-		return y.table.Pair(n.Region, first, second), api.OK
-	case tree.Fst:
-		return whole.First, api.OK
-	case tree.Snd:
-		return whole.Second, api.OK
 	case tree.If, tree.Loop:
-		return second, errorIf(second != third, api.ErrMatch)
+		if second != third {
+			return api.ErrMatch
+		}
 	case tree.New:
-		escapes := y.table.Mentions(first, n.Region)
-		return first, errorIf(escapes, api.ErrEscape)
-	}
-	return types.Number, api.OK
-}
-
-func errorIf(wrong bool, e api.Errno) api.Errno {
-	if wrong {
-		return e
+		if typing.Table.Mentions(first, n.Region) {
+			return api.ErrEscape
+		}
 	}
 	return api.OK
 }
